@@ -36,7 +36,7 @@ func Value(s string) (float64, api.Errno) {
 		return 0, api.ErrText
 	}
 	x, err := strconv.ParseFloat(s, 64)
-	if err != nil || math.Abs(x) > most {
+	if err != nil || isAbove(s) {
 		return 0, api.ErrFit
 	}
 	return x, api.OK
@@ -53,6 +53,13 @@ func isFigure(s string) bool {
 		return false
 	}
 	return !minus || !isNought(s)
+}
+
+// isAbove: does a figure write a magnitude above 2^30? By its digits, since the number nearest to it may be 2^30 all the same.
+func isAbove(figure string) bool {
+	whole, part, _ := strings.Cut(strings.TrimPrefix(figure, "-"), ".")
+	units, err := strconv.ParseInt(whole, 10, 64)
+	return err != nil || units > most || units == most && !isNought(part)
 }
 
 // areDigits: is s one digit or more, up to so many, and nothing else?

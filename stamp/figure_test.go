@@ -165,16 +165,16 @@ var (
 	minusNo  = regexp.MustCompile(`\A-0(\.0*)?\z`)
 )
 
-// wantValue: the chapter's words, a figure being told by patterns and its number rounded once.
+// wantValue: the chapter's words, a figure being told by patterns, held against 2^30 as it is, and its number rounded once.
 func wantValue(s string) (float64, api.Errno) {
 	if !readable.MatchString(s) || minusNo.MatchString(s) {
 		return 0, api.ErrText
 	}
 	r, _ := new(big.Rat).SetString(s)
-	x, _ := r.Float64()
-	if math.Abs(x) > most {
+	if new(big.Rat).Abs(r).Cmp(exact(most)) > 0 {
 		return 0, api.ErrFit
 	}
+	x, _ := r.Float64()
 	return x, api.OK
 }
 
@@ -194,7 +194,7 @@ func TestValue(t *testing.T) {
 		{"0.000000001", 1e-9}, {"-0.000000001", -1e-9}, {"-0.5", -0.5}, {"-1.0", -1}, {"3.141592653", 3.141592653},
 		{"1073741824", most}, {"-1073741824", -most}, {"1073741824.000000000", most}, {"-1073741824.0", -most},
 		{"1073741823.999999999", most}, {"1073741823.9999999", math.Nextafter(most, 0)},
-		{"1073741824.000000119", most}, {"-1073741824.000000119", -most}, // nearer to 2^30 than to the number above it
+		{"-1073741824.000000000", -most}, {"-1073741823.999999999", -most}, // nearest to 2^30 and not above it
 		{"4503599.627370495", 4503599.627370495}, {"1000000000", 1e9},
 	} {
 		got, err := stamp.Value(c.s)
@@ -216,6 +216,7 @@ func TestValueIsRefused(t *testing.T) {
 	for _, s := range []string{
 		"1073741824.5", "-1073741824.5", "1073741825", "-1073741825", "9999999999", "-9999999999", "9999999999.999999999",
 		"1073741824.000000120", "-1073741824.00000012", "1073741824.000001", "2147483648",
+		"1073741824.000000119", "-1073741824.000000119", "1073741824.0000001", "-1073741824.0000001", "1073741824.000000001", "-1073741824.000000001", // nearest to 2^30, but above it
 	} {
 		x, err := stamp.Value(s)
 		check(t, x == 0 && err == api.ErrFit, "Value", s, x, err)
@@ -275,6 +276,22 @@ func TestValueByTheChaptersWords(t *testing.T) {
 		middle := exact(x)
 		middle.Add(middle, exact(math.Nextafter(x, 2*most))).Quo(middle, big.NewRat(2, 1))
 		checkValue(t, middle.FloatString(9))
+	}
+}
+
+// Figures of every place that write 2^30 and a little more or less, down to the last unit.
+func TestValueAboutTheGreatest(t *testing.T) {
+	for places := range 10 {
+		greatest := new(big.Int).Mul(big.NewInt(most), power(places))
+		for off := int64(-300); off <= 300; off++ {
+			units := new(big.Int).Add(greatest, big.NewInt(off))
+			for _, minus := range []bool{false, true} {
+				s := written(minus, units, places)
+				checkValue(t, s)
+				_, err := stamp.Value(s)
+				check(t, err == api.ErrFit == (off > 0), "Value", s, err)
+			}
+		}
 	}
 }
 
